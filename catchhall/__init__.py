@@ -1,0 +1,1 @@
+"""Catchhall: catches dealt among boats by custom."""
