@@ -1,6 +1,6 @@
 """Fractions: tuples of top and bottom, always in their one form."""
 
-from catchhall.errors import NoFraction
+from catchhall.errors import NoFraction, Outside
 
 NOUGHT = (0, 1)
 
@@ -25,6 +25,10 @@ def made(top, bottom):
     return (top // divisor, bottom // divisor)
 
 
+def whole(number):
+    return (number, 1)
+
+
 def plus(one, two):
     return made(one[0] * two[1] + two[0] * one[1], one[1] * two[1])
 
@@ -46,6 +50,19 @@ def less(one, two):
     return one[0] * two[1] < two[0] * one[1]
 
 
+def lesser(one, two):
+    return one if less(one, two) else two
+
+
+def is_outside(amount, most):
+    return less(amount, NOUGHT) or less(most, amount)
+
+
+def refuse_outside(amount, most):
+    if is_outside(amount, most):
+        raise Outside("below nought, or more than there can be")
+
+
 def floor_of(one):
     return one[0] // one[1]
 
@@ -55,3 +72,12 @@ def total(some):
     for each in some:
         so_far = plus(so_far, each)
     return so_far
+
+
+# The places of the fractions in their list, the least fraction's first, of equal ones the earlier place.
+def ranked(some):
+    # Over one bottom fractions stand as their tops do.
+    bottom = 1
+    for each in some:
+        bottom = bottom * each[1]
+    return sorted(range(len(some)), key=lambda spot: some[spot][0] * (bottom // some[spot][1]))

@@ -1,7 +1,7 @@
 """Broken lines: tuples of points (x, y), always in as few points as can be."""
 
-from catchhall.errors import BadLine, Outside, Unlike
-from catchhall.fractions import NOUGHT, less, minus, over, plus, times
+from catchhall.errors import BadLine, Unlike
+from catchhall.fractions import NOUGHT, less, minus, over, plus, refuse_outside, times
 
 # A point's places, for what is done along either axis.
 ACROSS = 0
@@ -63,11 +63,6 @@ def stretch(line, y):
     if end[UP] == y:
         return (least, end[ACROSS])
     return (least, least)
-
-
-def refuse_outside(amount, most):
-    if less(amount, NOUGHT) or less(most, amount):
-        raise Outside("below nought, or beyond the line's end")
 
 
 def first_reaching(line, axis, amount):

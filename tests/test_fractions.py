@@ -1,4 +1,3 @@
-import inspect
 import random
 import unittest
 from fractions import Fraction
@@ -6,6 +5,7 @@ from fractions import Fraction
 from catchhall import fractions
 from catchhall.errors import CatchError, NoFraction
 from catchhall.fractions import floor_of, less, made, minus, over, plus, times, total
+from helping import Case, reckoned, told
 
 MOST = 10 ** 60 - 1
 
@@ -16,20 +16,12 @@ SOME = (
 )
 
 
-def reckoned(one):
-    return Fraction(one[0], one[1])
-
-
-def told(number):
-    return (number.numerator, number.denominator)
-
-
 def big(chance):
     figures = chance.choice((1, 2, 5, 30, 60))
     return chance.randrange(-(10 ** figures) + 1, 10 ** figures)
 
 
-class FractionCase(unittest.TestCase):
+class FractionCase(Case):
     def assert_told(self, answer, number):
         self.assertEqual(answer, told(number))
         self.assertIs(type(answer), tuple)
@@ -193,16 +185,13 @@ class Total(FractionCase):
         self.assertEqual(total(some), first)
 
 
-class Interface(unittest.TestCase):
+class Interface(Case):
     def test_names_and_arguments(self):
-        asked = {
+        self.assert_arguments(fractions, {
             "made": ["top", "bottom"], "plus": ["one", "two"], "minus": ["one", "two"],
             "times": ["one", "two"], "over": ["one", "two"], "less": ["one", "two"],
             "floor_of": ["one"], "total": ["some"],
-        }
-        for name, arguments in asked.items():
-            signature = inspect.signature(getattr(fractions, name))
-            self.assertEqual(list(signature.parameters), arguments, name)
+        })
 
 
 if __name__ == "__main__":

@@ -1,5 +1,4 @@
 import copy
-import inspect
 import random
 import unittest
 from fractions import Fraction
@@ -7,41 +6,13 @@ from fractions import Fraction
 from catchhall import lines
 from catchhall.errors import BadLine, CatchError, Outside, Unlike
 from catchhall.lines import behind, height, length, line_of, stretch, sum_of, turned, value
+from helping import TINY, Case, looked_at, points_of, reckoned, reckoned_value, told
 
-TINY = (1, 10 ** 59)
 ONE_POINT = (((0, 1), (0, 1)),)
-
-
-def told(number):
-    number = Fraction(number)
-    return (number.numerator, number.denominator)
-
-
-def reckoned(one):
-    return Fraction(one[0], one[1])
-
-
-def points_of(*pairs):
-    return [(told(x), told(y)) for x, y in pairs]
 
 
 def line_by(*pairs):
     return line_of(points_of(*pairs))
-
-
-def reckoned_points(line):
-    return [(reckoned(x), reckoned(y)) for x, y in line]
-
-
-# A second way to the value, piece by piece from the left, that shares nothing with the program.
-def reckoned_value(line, x):
-    points = reckoned_points(line)
-    if x == 0:
-        return Fraction(0)
-    for (x0, y0), (x1, y1) in zip(points, points[1:]):
-        if x0 < x <= x1:
-            return (y0 * (x1 - x) + y1 * (x - x0)) / (x1 - x0)
-    raise AssertionError("no such x")
 
 
 def drawn_line(chance, end=None, top=None, most=6):
@@ -58,34 +29,7 @@ def drawn_line(chance, end=None, top=None, most=6):
     return line_by(*[(x * wide, y * tall) for x, y in points])
 
 
-def looked_at(*some):
-    """All the x of these lines' points, and three between each two of them."""
-    joints = sorted({reckoned(x) for line in some for x, _ in line})
-    between = [one + (two - one) * Fraction(k, 4) for one, two in zip(joints, joints[1:]) for k in (1, 2, 3)]
-    return sorted(joints + between)
-
-
-class LineCase(unittest.TestCase):
-    def assert_line(self, line):
-        self.assertIs(type(line), tuple)
-        for point in line:
-            self.assertIs(type(point), tuple)
-            self.assertEqual(len(point), 2)
-            for part in point:
-                self.assertEqual([type(number) for number in part], [int, int])
-                self.assertEqual(part, told(reckoned(part)))
-        self.assertEqual(line[0], ((0, 1), (0, 1)))
-        points = reckoned_points(line)
-        slopes = []
-        for (x0, y0), (x1, y1) in zip(points, points[1:]):
-            self.assertLess(x0, x1)
-            self.assertLessEqual(y0, y1)
-            slopes.append((y1 - y0) / (x1 - x0))
-        for one, two in zip(slopes, slopes[1:]):
-            self.assertNotEqual(one, two)
-
-
-class LineOf(LineCase):
+class LineOf(Case):
     def test_points_as_they_are(self):
         points = points_of((0, 0), (1, 2), (3, 3), (4, 3), (5, 7))
         self.assertEqual(line_of(points), tuple(points))
@@ -201,7 +145,7 @@ class LengthAndHeight(unittest.TestCase):
         self.assertEqual(height(line_by((0, 0), (4, 0))), (0, 1))
 
 
-class Value(LineCase):
+class Value(Case):
     line = line_by((0, 0), (2, 0), (4, 3), (5, 3), (8, 4), (9, 4))
 
     def test_at_points(self):
@@ -235,7 +179,7 @@ class Value(LineCase):
                 self.assertEqual(value(line, told(x)), told(reckoned_value(line, x)))
 
 
-class Stretch(LineCase):
+class Stretch(Case):
     line = line_by((0, 0), (2, 0), (4, 3), (5, 3), (8, 4), (9, 4))
 
     def assert_stretch(self, line, y, least, greatest):
@@ -287,7 +231,7 @@ class Stretch(LineCase):
                 self.assertEqual((reckoned(least), reckoned(greatest)), (there[0], there[-1]))
 
 
-class SumOf(LineCase):
+class SumOf(Case):
     def assert_sum(self, one, two):
         line = sum_of(one, two)
         self.assert_line(line)
@@ -334,7 +278,7 @@ class SumOf(LineCase):
                 sum_of(other, line)
 
 
-class Behind(LineCase):
+class Behind(Case):
     def assert_behind(self, one, two):
         line = behind(one, two)
         self.assert_line(line)
@@ -393,7 +337,7 @@ class Behind(LineCase):
             behind(ONE_POINT, one)
 
 
-class Turned(LineCase):
+class Turned(Case):
     def assert_turned(self, line):
         other = turned(line)
         self.assert_line(other)
@@ -420,15 +364,12 @@ class Turned(LineCase):
             self.assert_turned(drawn_line(chance, most=12))
 
 
-class Interface(unittest.TestCase):
+class Interface(Case):
     def test_names_and_arguments(self):
-        asked = {
+        self.assert_arguments(lines, {
             "line_of": ["points"], "length": ["line"], "height": ["line"], "value": ["line", "x"],
             "sum_of": ["one", "two"], "behind": ["one", "two"], "turned": ["line"], "stretch": ["line", "y"],
-        }
-        for name, arguments in asked.items():
-            signature = inspect.signature(getattr(lines, name))
-            self.assertEqual(list(signature.parameters), arguments, name)
+        })
 
 
 if __name__ == "__main__":
