@@ -144,6 +144,40 @@ def drawn_custom(chance, boats=12, deep=8, most=30):
     return knot(way, drawn_weights(chance, way, len(kids)), kids)
 
 
+def roughened(chance, custom):
+    """A custom that deals alike by more knots: one of 4 deep stays within 8."""
+    if custom[0] != "boat":
+        way, weights, kids = custom[0], list(custom[1]), [roughened(chance, kid) for kid in custom[2]]
+        if weights:
+            factor = chance.randrange(1, 10 ** 6 // max(weights) + 1)
+            weights = [weight * factor for weight in weights]
+        custom = knot(way, weights, kids)
+        if way in ("row", "back", "part") and len(kids) > 2 and chance.random() < 0.5:
+            cut = chance.randrange(1, len(kids))
+            custom = knot(way, [], [knot(way, [], kids[:cut]), knot(way, [], kids[cut:])])
+        elif chance.random() < 0.4:
+            custom = in_lone_knot(chance, custom)
+    elif chance.random() < 0.3:
+        custom = in_lone_knot(chance, custom)
+    return custom
+
+
+def in_lone_knot(chance, custom):
+    way = chance.choice(WAYS)
+    return knot(way, drawn_weights(chance, way, 1), [custom])
+
+
+def with_ways(chance, custom):
+    """The same tree, some of whose knots deal in other ways."""
+    if custom[0] == "boat":
+        return custom
+    kids = [with_ways(chance, kid) for kid in custom[2]]
+    if chance.random() < 0.7:
+        return knot(custom[0], custom[1], kids)
+    way = chance.choice(WAYS)
+    return knot(way, drawn_weights(chance, way, len(kids)), kids)
+
+
 def catches_for(custom):
     """Catches from nought to the claim, whole ones and parts."""
     whole = claimed(custom)
