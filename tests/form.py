@@ -171,9 +171,12 @@ def look_at_assign(node):
 def look_at_loop(node):
     yield "L6", node.orelse != []
     if isinstance(node, ast.For):
+        walked = [ast.dump(each) for each in [node.iter] + getattr(node.iter, "args", [])]
         for each in ast.walk(node):
             if isinstance(each, ast.Call) and isinstance(each.func, ast.Attribute) and each.func.attr in CHANGING:
-                yield "L23", ast.dump(each.func.value) == ast.dump(node.iter)
+                yield "L23", ast.dump(each.func.value) in walked
+            if isinstance(each, ast.Subscript) and isinstance(each.ctx, ast.Store):
+                yield "L23", ast.dump(each.value) in walked
 
 
 def look_at_expr_row(node):
@@ -296,6 +299,18 @@ def faults_of_names(tree):
         if local or isinstance(node, ast.arg) and node.arg in taken:
             found.append(f"L15 row {node.lineno}: called like a class or an import")
     return found
+
+
+def faults_of_classes(files):
+    """L18 over all files: no name is a method in one class and a value in another."""
+    methods = set()
+    values = set()
+    for text in files.values():
+        for each in [node for node in ast.parse(text).body if isinstance(node, ast.ClassDef)]:
+            methods |= {node.name for node in each.body if isinstance(node, ast.FunctionDef)}
+            stored = [node for node in ast.walk(each) if isinstance(node, ast.Attribute)]
+            values |= {node.attr for node in stored if isinstance(node.ctx, ast.Store)}
+    return [f"L18 {name} is a method and a value" for name in sorted(methods & values)]
 
 
 def faults_of_imports(files):

@@ -100,12 +100,16 @@ def reckoned_dealt(way, weights, claims, catch):
     return [claim - lack for claim, lack in zip(claims, level_dealt(ones, halves, whole - catch))]
 
 
+def claims_in(custom):
+    return [custom[1]] if custom[0] == "boat" else [claim for kid in custom[2] for claim in claims_in(kid)]
+
+
 def boats_in(custom):
-    return 1 if custom[0] == "boat" else sum(boats_in(kid) for kid in custom[2])
+    return len(claims_in(custom))
 
 
 def claimed(custom):
-    return custom[1] if custom[0] == "boat" else sum(claimed(kid) for kid in custom[2])
+    return sum(claims_in(custom))
 
 
 def reckoned_shares(custom, catch):
@@ -113,6 +117,52 @@ def reckoned_shares(custom, catch):
         return [Fraction(catch)]
     amounts = reckoned_dealt(custom[0], custom[1], [claimed(kid) for kid in custom[2]], catch)
     return [share for kid, amount in zip(custom[2], amounts) for share in reckoned_shares(kid, amount)]
+
+
+def reckoned_fish(custom, catch):
+    """By the words of point 19: one fish after another to the boat with the greatest broken part that got none yet."""
+    exact = reckoned_shares(custom, catch)
+    dealt = [share.numerator // share.denominator for share in exact]
+    broken = [share - floor for share, floor in zip(exact, dealt)]
+    for _ in range(catch - sum(dealt)):
+        lucky = broken.index(max(broken))
+        dealt[lucky] += 1
+        broken[lucky] = Fraction(-1)
+    return dealt
+
+
+def claims_put(custom, claims):
+    """The same tree with other claims."""
+    if custom[0] == "boat":
+        return ("boat", claims.pop(0))
+    return (custom[0], custom[1], tuple(claims_put(kid, claims) for kid in custom[2]))
+
+
+class Book:
+    """A second ledger, by the words of point 22."""
+
+    def __init__(self, custom, names):
+        self.custom, self.names = custom, list(names)
+        self.got, self.kept, self.tape = [0] * len(self.names), 0, []
+
+    def ask(self, name, claim):
+        claims = claims_in(self.custom)
+        claims[self.names.index(name)] = claim
+        self.custom = claims_put(self.custom, claims)
+        self.tape.append(("ask", name, claim))
+        return [("ask", name, claim)]
+
+    def land(self, catch):
+        gets = reckoned_fish(self.custom, min(catch, claimed(self.custom)))
+        facts = [("land", catch)]
+        facts += [("gets", name, many) for name, many in zip(self.names, gets) if many]
+        if catch > sum(gets):
+            facts.append(("kept", catch - sum(gets)))
+        self.custom = claims_put(self.custom, [one - two for one, two in zip(claims_in(self.custom), gets)])
+        self.got = [one + two for one, two in zip(self.got, gets)]
+        self.kept += catch - sum(gets)
+        self.tape += facts
+        return facts
 
 
 def drawn_weights(chance, way, many):
@@ -176,6 +226,16 @@ def with_ways(chance, custom):
         return knot(custom[0], custom[1], kids)
     way = chance.choice(WAYS)
     return knot(way, drawn_weights(chance, way, len(kids)), kids)
+
+
+def drawn_names(chance, many):
+    """Names, no two alike, some of them the words of ways and deeds, of one letter and of twelve."""
+    names = list(WAYS) + ["boat", "ask", "land", "gets", "kept", "custom", "refused"]
+    while len(names) < 30:
+        name = "".join(chance.choice("abcxyz") for _ in range(chance.choice((1, 2, 5, 12))))
+        if name not in names:
+            names.append(name)
+    return chance.sample(names, many)
 
 
 def catches_for(custom):

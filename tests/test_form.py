@@ -1,7 +1,7 @@
 import pathlib
 import unittest
 
-from form import PACKAGE, faults_of_file, faults_of_imports
+from form import PACKAGE, faults_of_classes, faults_of_file, faults_of_imports
 
 FOLDER = pathlib.Path(__file__).resolve().parent.parent / PACKAGE
 
@@ -22,6 +22,7 @@ BREACHES = (
     ("L22", "def f():\n    return len"), ("L22", "def f(x):\n    return int(x, base=3)"),
     ("L23", "def f():\n    a = range(3)\n    return a"),
     ("L23", "def f(x):\n    for y in x:\n        x.append(y)"), ("L24", "def f(x):\n    a = set(x)\n    return a"),
+    ("L23", "def f(x):\n    for k, y in enumerate(x):\n        x[k] = y"),
     ("L25", "def f(x):\n    return x.sort()"), ("L27", "def f(n):\n    return 2 ** n"), ("L27", "a = 'b%'"),
 )
 
@@ -46,6 +47,9 @@ class Form(unittest.TestCase):
     def test_imports(self):
         self.assertEqual(faults_of_imports(self.files()), [])
 
+    def test_classes(self):
+        self.assertEqual(faults_of_classes(self.files()), [])
+
 
 class Looking(unittest.TestCase):
     def test_each_breach_is_seen(self):
@@ -62,6 +66,13 @@ class Looking(unittest.TestCase):
     def test_names_of_files(self):
         for name in ("Lines.py", "test_lines.py", "len.py", "lines.txt", "site.py"):
             self.assertIn("L14", rules_of(faults_of_file(name, "")), name)
+
+    def test_a_method_and_a_value_of_one_name(self):
+        files = {
+            "one.py": "class One:\n    def names(self):\n        return 1\n",
+            "two.py": "class Two:\n    def __init__(self):\n        self.names = 1\n",
+        }
+        self.assertEqual(rules_of(faults_of_classes(files)), {"L18"})
 
     def test_rings_and_roundabout_imports(self):
         ring = {
