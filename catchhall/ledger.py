@@ -19,10 +19,9 @@ class Ledger:
     def ask(self, name, claim):
         if name not in self.called:
             raise NoBoat("there is no boat of that name")
-        # A claim is good where a boat can have it.
-        boat(claim)
         claims = claims_of(self.standing)
         claims[self.called.index(name)] = claim
+        # A claim that no boat can have is refused here, ahead of any change.
         self.standing = with_claims(self.standing, claims)
         return self.noted([("ask", name, claim)])
 

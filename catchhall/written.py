@@ -60,7 +60,7 @@ def read(text):
     if not reader.is_done():
         raise NoText("something stands behind the end")
     refuse_names(custom, reader.called)
-    return (custom, list(reader.called))
+    return (custom, reader.called)
 
 
 # Goes through a text sign by sign, and keeps the names that it comes by.
